@@ -1,0 +1,1 @@
+"""Foldsame: linking programs so that equal pieces are one."""

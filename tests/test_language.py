@@ -1,0 +1,96 @@
+"""The rules of the language subset that are quick to check: files, sizes, imports, names."""
+
+import ast
+import builtins
+import os
+import unittest
+
+FOLDER = os.path.join(os.path.dirname(os.path.dirname(os.path.abspath(__file__))), "foldsame")
+LIBRARY = {
+    "heapq": {"heappush", "heappop", "heapify", "heapreplace", "heappushpop"},
+    "math": {"gcd", "lcm", "isqrt", "comb", "perm", "factorial"},
+    "itertools": {"product", "combinations", "permutations"},
+}
+BUILTINS = set("""
+    len range enumerate zip min max sum abs sorted reversed int str bool bytes list tuple dict set frozenset isinstance
+    ord repr any all divmod iter next map super property staticmethod classmethod object float Exception ValueError
+    TypeError KeyError IndexError LookupError ZeroDivisionError ArithmeticError OverflowError RuntimeError
+    NotImplementedError AttributeError StopIteration NotImplemented
+""".split())
+DECORATORS = {"property", "setter", "staticmethod", "classmethod"}
+
+
+def package_files():
+    """The path and text of each file of the package."""
+    found = []
+    for folder, folders, names in sorted(os.walk(FOLDER)):
+        folders[:] = [name for name in folders if name != "__pycache__"]
+        for name in sorted(names):
+            path = os.path.join(folder, name)
+            with open(path, encoding="utf-8", newline="") as file:
+                found.append((path, file.read()))
+    return found
+
+
+class Language(unittest.TestCase):
+
+    def setUp(self):
+        self.files = package_files()
+        self.trees = [(path, ast.parse(text)) for path, text in self.files]
+
+    def nodes(self, *kinds):
+        for path, tree in self.trees:
+            for node in ast.walk(tree):
+                if isinstance(node, kinds):
+                    yield f"{path}:{getattr(node, 'lineno', 0)}", node
+
+    def test_files(self):
+        self.assertIn(os.path.join(FOLDER, "__init__.py"), [path for path, _ in self.files])
+        for path, text in self.files:
+            self.assertRegex(os.path.basename(path), r"\A[a-z0-9_]+\.py\Z")
+            self.assertTrue(set(text) <= {"\n"} | {chr(k) for k in range(32, 127)}, path)
+            self.assertLessEqual(len(text.split("\n")), 400, path)
+            self.assertLessEqual(max([len(line) for line in text.split("\n")]), 120, path)
+
+    def test_functions_are_small(self):
+        for place, node in self.nodes(ast.FunctionDef):
+            self.assertLessEqual(node.end_lineno - node.lineno + 1, 40, place)
+
+    def test_imports(self):
+        self.assertEqual(list(self.nodes(ast.Import)), [])
+        for place, node in self.nodes(ast.ImportFrom):
+            self.assertEqual(node.level, 0, place)
+            if node.module in LIBRARY:
+                self.assertTrue({name.name for name in node.names} <= LIBRARY[node.module], place)
+            else:
+                self.assertTrue(node.module.startswith("foldsame."), place)
+                self.assertNotIn("*", [name.name for name in node.names], place)
+
+    def test_builtins(self):
+        barred = set(dir(builtins)) - BUILTINS
+        for place, node in self.nodes(ast.Name):
+            self.assertNotIn(node.id, barred, place)
+
+    def test_statements(self):
+        barred = (ast.Global, ast.AsyncFunctionDef, ast.AsyncFor, ast.AsyncWith, ast.Await, ast.Div)
+        self.assertEqual([place for place, _ in self.nodes(*barred)], [])
+        for place, node in self.nodes(ast.ExceptHandler):
+            self.assertIsNotNone(node.type, place)
+        for place, node in self.nodes(ast.Constant):
+            self.assertNotIsInstance(node.value, (float, complex), place)
+        for place, node in self.nodes(ast.FunctionDef, ast.ClassDef):
+            for mark in node.decorator_list:
+                self.assertIn(mark.attr if isinstance(mark, ast.Attribute) else mark.id, DECORATORS, place)
+
+    def test_module_level(self):
+        allowed = (ast.Import, ast.ImportFrom, ast.FunctionDef, ast.ClassDef, ast.Assign, ast.AnnAssign, ast.Expr)
+        for path, tree in self.trees:
+            if os.path.basename(path) != "__main__.py":
+                for node in tree.body:
+                    self.assertIsInstance(node, allowed, path)
+                    if isinstance(node, ast.Expr):
+                        self.assertIsInstance(node.value, ast.Constant, path)
+
+
+if __name__ == "__main__":
+    unittest.main()
