@@ -179,6 +179,12 @@ class Program:
             raise UnknownName(name)
         return self._rows[name]
 
+    def home_of(self, name):
+        """The piece to which the address of this name goes: the taken one itself. Raises UnknownName."""
+        if not isinstance(name, str) or name not in self.taken:
+            raise UnknownName(name)
+        return name
+
     def meaning(self, module, name):
         """The full name that a name means in a module of the program, or None."""
         if not is_name(name) or not isinstance(module, str) or module not in self._scope.modules:

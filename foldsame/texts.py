@@ -37,6 +37,11 @@ def is_name(value):
     return value[0] in LETTERS and all([sign in LETTERS or sign in DIGITS for sign in value])
 
 
+def is_integer(value):
+    """Whether any value is an integer: True and False are none."""
+    return isinstance(value, int) and not isinstance(value, bool)
+
+
 def read_integer(word):
     """The integer from 0 to 99 that a word writes, or None."""
     if not 1 <= len(word) <= 2 or not all([sign in DIGITS for sign in word]):
@@ -55,15 +60,21 @@ def read_part(word, sort):
     return read_integer(word)
 
 
-def read_instruction(words):
-    """The row of an instruction's words, or None if they are none."""
-    form = FORMS.get(words[0])
-    if form is None or len(words) != len(form) + 1:
+def read_parts(words, form):
+    """The row of words that have a form behind the first one, or None if they have not."""
+    if len(words) != len(form) + 1:
         return None
     parts = [read_part(word, sort) for word, sort in zip(words[1:], form)]
     if any([part is None for part in parts]):
         return None
     return (words[0], *parts)
+
+
+def read_instruction(words):
+    """The row of an instruction's words, or None if they are none."""
+    if words[0] not in FORMS:
+        return None
+    return read_parts(words, FORMS[words[0]])
 
 
 def read_datum(words):

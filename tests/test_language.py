@@ -18,6 +18,11 @@ BUILTINS = set("""
     NotImplementedError AttributeError StopIteration NotImplemented
 """.split())
 DECORATORS = {"property", "setter", "staticmethod", "classmethod"}
+BARRED = set("""
+    register mro elements open input law version_info with_traceback add_note f_back f_code f_globals f_locals tb_next
+    tb_frame co_names co_code attrgetter breakpoint builtins compile copyright credits delattr dir eval exec exit gc
+    getattr globals hasattr help id importlib license locals methodcaller os quit setattr type vars sys format
+""".split())
 
 
 def package_files():
@@ -65,6 +70,43 @@ class Language(unittest.TestCase):
             else:
                 self.assertTrue(node.module.startswith("foldsame."), place)
                 self.assertNotIn("*", [name.name for name in node.names], place)
+
+    def test_no_two_files_import_from_each_other(self):
+        ahead = {}
+        for path, tree in self.trees:
+            name = "foldsame." + os.path.basename(path)[:-len(".py")]
+            ahead[name] = {node.module for node in ast.walk(tree) if isinstance(node, ast.ImportFrom)}
+        done = set()
+        while len(done) < len(ahead):
+            ready = {name for name in ahead if name not in done and ahead[name] & set(ahead) <= done}
+            self.assertNotEqual(ready, set(), sorted(set(ahead) - done))
+            done |= ready
+
+    def test_names_of_imports_and_classes_mean_nothing_else(self):
+        for path, tree in self.trees:
+            imported = {name.name for node in ast.walk(tree) if isinstance(node, ast.ImportFrom) for name in node.names}
+            classes = {node.name for node in ast.walk(tree) if isinstance(node, ast.ClassDef)}
+            own = {node.arg for node in ast.walk(tree) if isinstance(node, ast.arg)}
+            own |= {node.id for node in ast.walk(tree) if isinstance(node, ast.Name) and isinstance(node.ctx, ast.Store)}
+            self.assertEqual(own & (imported | classes), set(), path)
+            used = {node.id for node in ast.walk(tree) if isinstance(node, ast.Name) and isinstance(node.ctx, ast.Load)}
+            self.assertEqual(imported - used, set(), path)
+
+    def test_barred_names(self):
+        for place, node in self.nodes(ast.Name, ast.arg, ast.Attribute, ast.FunctionDef, ast.ClassDef, ast.keyword):
+            for field in ("id", "arg", "attr", "name"):
+                self.assertNotIn(getattr(node, field, None), BARRED, place)
+
+    def test_generators_have_names_of_their_own(self):
+        functions = [node for _, node in self.nodes(ast.FunctionDef)]
+        generators = {node.name for node in functions if [part for part in ast.walk(node) if isinstance(part, ast.Yield)]}
+        self.assertEqual(generators & {"records", "foldings"}, generators)
+        names = [node.name for node in functions if node.name in generators]
+        self.assertEqual(len(names), len(generators))
+        called = {id(node.func) for _, node in self.nodes(ast.Call)}
+        for place, node in self.nodes(ast.Name):
+            if node.id in generators:
+                self.assertIn(id(node), called, place)
 
     def test_builtins(self):
         barred = set(dir(builtins)) - BUILTINS

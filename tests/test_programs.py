@@ -2,6 +2,7 @@
 
 import unittest
 
+from helpers import Odd, data, func, rows
 from foldsame.errors import BadModule, BadName, FoldError, LimitExceeded, UnknownName
 from foldsame.programs import Program
 
@@ -9,28 +10,6 @@ NO_NAMES = [None, True, False, 0, 1, 1.5, b"m", (), ("m",), ("m", "main"), froze
             "m ", "func", "data", "end", "export", "alias", "ret", "choose", "abcdefghi", "m_n", "\u00e9"]
 UNHASHABLE = [[], ["m.main"], {}, {"m.main": 1}, {"m.main"}, [["m"]]]
 MAIN = "export main\nfunc main\nend"
-
-
-class Odd:
-    """A value that claims to be equal to anything."""
-
-    def __eq__(self, other):
-        return True
-
-    def __hash__(self):
-        return hash("m.main")
-
-
-def rows(*given):
-    return "\n".join(given)
-
-
-def func(name, *given):
-    return rows("func " + name, *given, "end")
-
-
-def data(name, *given):
-    return rows("data " + name, *given, "end")
 
 
 def error_of(modules, *entry):
@@ -482,6 +461,14 @@ class Methods(unittest.TestCase):
             self.assertIsNone(self.program.meaning(value, "main"))
             self.assertIsNone(self.program.meaning("m", value))
             self.assertIsNone(self.program.meaning(value, value))
+
+    def test_homes_of_addresses(self):
+        program = Program({"m": rows("export main", func("main", "addr a f"), func("f"))})
+        self.assertEqual(program.home_of("m.f"), "m.f")
+        for value in NO_NAMES + UNHASHABLE + ["m.main", Odd()]:
+            with self.assertRaises(UnknownName) as told:
+                program.home_of(value)
+            self.assertIs(told.exception.value, value)
 
     def test_methods_stand_in_the_class(self):
         for name in ["kind_of", "rows_of", "meaning", "__contains__", "__len__", "__eq__"]:
