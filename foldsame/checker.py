@@ -1,45 +1,14 @@
 """A checker for papers of any author: it goes from a state to its next event alone, and finds likeness by itself."""
 
-from foldsame.foldings import Folding, partitions
-from foldsame.forms import first_names, form_of
+from foldsame.foldings import partitions
+from foldsame.forms import in_order
+from foldsame.forks import Forks, Joined, named_uses
 from foldsame.images import Image
-from foldsame.likeness import check_path, is_partition, within_parts
-from foldsame.machine import MOST_FRAMES, Steps, begin, passed
-from foldsame.sizes import size_from
-from foldsame.texts import REGISTERS, is_integer
-
-GREATEST_INTEGER = 99
-
-
-def is_pair(value):
-    """Whether any value is a tuple of two."""
-    return isinstance(value, tuple) and len(value) == 2
-
-
-def is_frame(code, value):
-    """Whether any value is a frame of a function of a code."""
-    if not is_pair(value) or value[0] not in code or code.kind_of(value[0]) != "func":
-        return False
-    return is_integer(value[1]) and 0 <= value[1] <= len(code.rows_of(value[0]))
-
-
-def is_value(code, value):
-    """Whether any value is one that a register may have."""
-    if is_pair(value):
-        return all([isinstance(word, str) for word in value]) and value[0] == "at" and value[1] in code.taken
-    return is_integer(value) and 0 <= value <= GREATEST_INTEGER
-
-
-def is_state(code, value):
-    """Whether any value is a state of a code."""
-    if not is_pair(value):
-        return False
-    frames, registers = value
-    if not isinstance(frames, tuple) or not 1 <= len(frames) <= MOST_FRAMES:
-        return False
-    if not isinstance(registers, tuple) or len(registers) != len(REGISTERS):
-        return False
-    return all([is_frame(code, frame) for frame in frames]) and all([is_value(code, held) for held in registers])
+from foldsame.joins import Fold, joins_of
+from foldsame.likeness import is_partition, path_end, within_parts
+from foldsame.machine import Steps, begin, passed
+from foldsame.sizes import size_of, used_from
+from foldsame.states import is_pair, is_state
 
 
 def pairs_closed(one, other, first, value):
@@ -88,91 +57,89 @@ def check_moment(program, image, value):
     return moment_right(Steps(program), Steps(image), value)
 
 
-def moments_reach(steps, value, least):
-    """What check_size tells, by the Steps of the image."""
+def moments_used(steps, value):
+    """What a code uses from a list of moments to the next events, with the entry; None if any value is none."""
     if not isinstance(value, list):
-        return False
+        return None
     found = [passed(steps, moment) for moment in value]
     if any([one is None for one in found]):
-        return False
-    return size_from(steps, [state for _, state in found]) >= least
+        return None
+    return used_from(steps, [state for _, state in found])
 
 
 def check_size(image, value, least):
     """Whether any value is a list of moments from which an image uses what has at least this size."""
-    return moments_reach(Steps(image), value, least)
+    used = moments_used(Steps(image), value)
+    return used is not None and size_of(image, *used) >= least
 
 
-def parted(program, homes, parts):
-    """The pieces by what they say if the pieces of each part are one."""
-    firsts = first_names(parts)
-    found = {}
-    for name in program.pieces:
-        found.setdefault(form_of(program, name, firsts, homes), []).append(name)
-    return tuple([tuple(part) for part in found.values()])
+class Entries:
+    """The entries of a paper, while they are looked at: the partition of each is a Fold of the program."""
 
+    def __init__(self, program):
+        self.program = program
+        self.joins = joins_of(program)
+        self.forks = Forks(program, self.joins.bits)
 
-def like_bodies(program, addresses):
-    """The greatest stable partition: all pieces are one at first, and are parted until those of a part agree."""
-    homes = first_names(addresses)
-    parts, finer = (), (program.pieces,)
-    while len(finer) > len(parts):
-        parts = finer
-        finer = parted(program, homes, parts)
-    return parts
+    def steps_of(self, fold):
+        """What the program does where the addresses of a Fold are joined."""
+        return Joined(self.forks, fold.joined)
 
+    def apart_right(self, fold, pair, path):
+        """Whether any values are two pieces of one address and a path that shows them unlike."""
+        if not is_pair(pair) or not all([name in self.program for name in pair]):
+            return False
+        if not within_parts(fold.addresses, pair):
+            return False
+        end = path_end(self.program, pair, path)
+        return end is not None and end[0] != end[1] and self.joins.differ_at_once(fold.joined, in_order(*end))
 
-def image_of(program, addresses):
-    """The image with these addresses and the greatest stable bodies, or None if these do not hold the addresses."""
-    bodies = like_bodies(program, addresses)
-    if not all([within_parts(bodies, part) for part in addresses]):
-        return None
-    return Image(Folding(program, addresses, bodies))
+    def noticed_right(self, fold, value):
+        """Whether any value is a moment at which the image of a legal Fold is noticed."""
+        return moment_right(Joined(self.forks, 0), self.steps_of(fold), value)
 
+    def large_right(self, fold, value, least):
+        """Whether any value is a list of moments from which the image uses what has at least this size."""
+        used = moments_used(self.steps_of(fold), value)
+        return used is not None and size_of(fold, *named_uses(fold, *used)) >= least
 
-def apart_right(program, addresses, pair, path):
-    """Whether any values are two pieces of one address and a path that shows them unlike."""
-    if not is_pair(pair) or not all([name in program for name in pair]) or not within_parts(addresses, pair):
-        return False
-    return check_path(program, addresses, pair[0], pair[1], path)
+    def right(self, addresses, least, entry):
+        """Whether any value is a right entry for addresses, where an image of at least this size is large."""
+        if not isinstance(entry, tuple) or len(entry) == 0 or not isinstance(entry[0], str):
+            return False
+        fold = Fold(self.joins, addresses)
+        if entry[0] == "apart":
+            return len(entry) == 3 and self.apart_right(fold, entry[1], entry[2])
+        if not fold.legal or len(entry) != 2:
+            return False
+        if entry[0] == "noticed":
+            return self.noticed_right(fold, entry[1])
+        return entry[0] == "large" and self.large_right(fold, entry[1], least)
 
-
-def entry_right(steps, addresses, least, entry):
-    """Whether any value is a right entry for addresses, where an image of at least this size is large."""
-    if not isinstance(entry, tuple) or len(entry) == 0 or not isinstance(entry[0], str):
-        return False
-    if entry[0] == "apart":
-        return len(entry) == 3 and apart_right(steps.code, addresses, entry[1], entry[2])
-    image = image_of(steps.code, addresses)
-    if image is None or len(entry) != 2:
-        return False
-    if entry[0] == "noticed":
-        return moment_right(steps, Steps(image), entry[1])
-    return entry[0] == "large" and moments_reach(Steps(image), entry[1], least)
-
-
-def entries_right(steps, addresses, least, entries):
-    """Whether any value is a list of right entries for all other partitions, in order."""
-    wanted = partitions(steps.code.taken)
-    place = wanted.index(addresses)
-    if not isinstance(entries, list) or len(entries) != len(wanted) - 1:
-        return False
-    # Of equal sizes the first image is the smallest: one that stands ahead has to be larger.
-    ahead = [entry_right(steps, other, least + 1, entry) for other, entry in zip(wanted[:place], entries)]
-    behind = [entry_right(steps, other, least, entry) for other, entry in zip(wanted[place + 1:], entries[place:])]
-    return all(ahead) and all(behind)
+    def all_right(self, addresses, least, entries):
+        """Whether any value is a list of right entries for all other partitions, in order."""
+        wanted = partitions(self.program.taken)
+        place = wanted.index(addresses)
+        if not isinstance(entries, list) or len(entries) != len(wanted) - 1:
+            return False
+        # Of equal sizes the first image is the smallest: one that stands ahead has to be larger.
+        ahead = [self.right(other, least + 1, entry) for other, entry in zip(wanted[:place], entries)]
+        behind = [self.right(other, least, entry) for other, entry in zip(wanted[place + 1:], entries[place:])]
+        return all(ahead) and all(behind)
 
 
 def check_smallest(program, value):
     """Whether any value is a paper that shows the smallest image of a program."""
     if not isinstance(value, tuple) or len(value) != 3 or not is_partition(program.taken, value[0]):
         return False
-    addresses, pairs, entries = value
-    image = image_of(program, addresses)
-    if image is None:
+    addresses, pairs, rest = value
+    entries = Entries(program)
+    fold = Fold(entries.joins, addresses)
+    if not fold.legal:
         return False
-    steps, image_steps = Steps(program), Steps(image)
-    if not begins_closed(steps, image_steps, pairs):
+    image = Image(fold.as_folding())
+    steps = Steps(image)
+    if not begins_closed(Joined(entries.forks, 0), steps, pairs):
         return False
-    least = size_from(image_steps, [there for _, there in pairs])
-    return entries_right(steps, addresses, least, entries)
+    least = size_of(image, *used_from(steps, [there for _, there in pairs]))
+    return entries.all_right(addresses, least, rest)

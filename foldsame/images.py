@@ -64,6 +64,10 @@ class Linked:
             raise UnknownName(name)
         return self._homes[name]
 
+    def keeps(self, body, address=None):
+        """Whether a body and an address are kept: an image leaves nothing out."""
+        return True
+
     def __contains__(self, name):
         return isinstance(name, str) and name in self._forms
 

@@ -77,20 +77,28 @@ def path_onward(program, pair, paths):
     return None
 
 
-def least_paths(program, addresses, alone):
-    """The least right path of each pair of unlike pieces. All other pairs are alike."""
+def least_paths(program, addresses, alone, known):
+    """The least right path of each pair of unlike pieces. All other pairs are alike.
+
+    What is known of a pair, its path or None, is not looked for again.
+    """
     forms = own_forms(program, addresses)
-    rest = pairs_of(program.pieces)
-    paths = {pair: () for pair in rest if differ_at_once(forms, alone, *pair)}
-    grown = len(paths) > 0
-    while grown:
+    rest = [pair for pair in pairs_of(program.pieces) if pair not in known]
+    waiting = [pair for pair in known if known[pair] is not None]
+    found = {pair: () for pair in rest if differ_at_once(forms, alone, *pair)}
+    paths = {}
+    length = 0
+    while found or waiting:
+        for pair in waiting:
+            if len(known[pair]) == length:
+                found[pair] = known[pair]
+        waiting = [pair for pair in waiting if pair not in found]
+        paths.update(found)
         rest = [pair for pair in rest if pair not in paths]
         # A pair has no path yet, so those it leads to have the longest so far: all found now are as long.
         longer = {pair: path_onward(program, pair, paths) for pair in rest}
-        found = [pair for pair in rest if longer[pair] is not None]
-        for pair in found:
-            paths[pair] = longer[pair]
-        grown = len(found) > 0
+        found = {pair: longer[pair] for pair in rest if longer[pair] is not None}
+        length += 1
     return paths
 
 
@@ -113,10 +121,14 @@ class Likeness:
 
     def __init__(self, program, addresses, *, alone=()):
         check_given(program, addresses, alone)
+        self.fill(program, addresses, alone, {})
+
+    def fill(self, program, addresses, alone, known):
+        """Sets all attributes, by what is known of the paths of some pairs."""
         self.program = program
         self.addresses = addresses
         self.alone = alone
-        self._paths = least_paths(program, addresses, alone)
+        self._paths = least_paths(program, addresses, alone, known)
         self.bodies = bodies_apart(program.pieces, self._paths)
         self._firsts = first_names(self.bodies)
 
@@ -176,17 +188,23 @@ def least_bodies(program, addresses):
     return tuple(sorted([tuple(sorted(part)) for part in parts]))
 
 
-def path_right(program, forms, alone, pair, value):
-    """Whether any value is a right path from two pieces."""
+def path_end(program, pair, value):
+    """The pieces to which any value leads from two pieces as a path, or None if it does not."""
     if not isinstance(value, tuple) or not all([is_integer(number) for number in value]):
-        return False
+        return None
     one, other = pair
     for number in value:
         onward = next_pair(program, one, other, number)
         if onward is None:
-            return False
+            return None
         one, other = onward
-    return one != other and differ_at_once(forms, alone, one, other)
+    return (one, other)
+
+
+def path_right(program, forms, alone, pair, value):
+    """Whether any value is a right path from two pieces."""
+    end = path_end(program, pair, value)
+    return end is not None and end[0] != end[1] and differ_at_once(forms, alone, *end)
 
 
 def check_path(program, addresses, one, other, value, *, alone=()):

@@ -1,7 +1,8 @@
 """The machine: what the runs of a code do, from event to event.
 
 A code has an entry; bodies, with kind_of and rows_of; and addresses, each with
-the body to which it goes, home_of. All else that a code is does not matter here.
+the body to which it goes, home_of; keeps tells which of both are not left out.
+All else that a code is does not matter here.
 """
 
 from foldsame.errors import BadValue
@@ -38,10 +39,14 @@ def home_at(code, value, kind):
 
 
 class Run:
-    """A run from a state to its next event, with what it uses and compares on its way."""
+    """A run from a state to its next event, with what it uses and compares on its way.
 
-    def __init__(self, code, state):
+    The pairs of names in joined are addresses that count as one where they are compared.
+    """
+
+    def __init__(self, code, state, joined):
         self.code = code
+        self.joined = joined
         self.frames = state[0]
         self.below = state[0][:-1]
         self.name, self.number = state[0][-1]
@@ -69,16 +74,24 @@ class Run:
         """Goes on at the instruction of this number."""
         self.number = number
 
-    def push(self, body):
-        """Puts a frame of a body on top; whether there was room."""
+    def use(self, body, address=None):
+        """Uses a body, through an address or not, or ends the run if one of them is left out; whether it goes on."""
+        if not self.code.keeps(body, address):
+            self.end("missing")
+            return False
+        self.bodies[body] = True
+        if address is not None:
+            self.addresses[address] = True
+        return True
+
+    def push(self, body, address=None):
+        """Puts a frame of a body on top, if there is room."""
         if len(self.below) + 1 == MOST_FRAMES:
             self.end("deep")
-            return False
-        self.below = (*self.below, (self.name, self.number + 1))
-        self.name = body
-        self.number = 0
-        self.bodies[body] = True
-        return True
+        elif self.use(body, address):
+            self.below = (*self.below, (self.name, self.number + 1))
+            self.name = body
+            self.number = 0
 
     def end(self, word):
         """Ends the run."""
@@ -102,8 +115,8 @@ def do_callr(run, row):
     home = home_at(run.code, value, "func")
     if home is None:
         run.end("fault")
-    elif run.push(home):
-        run.addresses[value[1]] = True
+    else:
+        run.push(home, value[1])
 
 
 def do_ret(run, _):
@@ -132,8 +145,8 @@ def do_move(run, row):
 
 def do_read(run, row):
     """read R NAME I"""
-    run.bodies[row[2]] = True
-    run.put(row[1], word_value(run.code.rows_of(row[2])[row[3]]))
+    if run.use(row[2]):
+        run.put(row[1], word_value(run.code.rows_of(row[2])[row[3]]))
 
 
 def do_readr(run, row):
@@ -142,23 +155,24 @@ def do_readr(run, row):
     home = home_at(run.code, value, "data")
     if home is None:
         run.end("fault")
-        return
     # It looks at the data before it can find that they have too few words.
-    run.bodies[home] = True
-    run.addresses[value[1]] = True
-    words = run.code.rows_of(home)
-    if row[3] < len(words):
-        run.put(row[1], word_value(words[row[3]]))
-    else:
-        run.end("fault")
+    elif run.use(home, value[1]):
+        words = run.code.rows_of(home)
+        if row[3] < len(words):
+            run.put(row[1], word_value(words[row[3]]))
+        else:
+            run.end("fault")
 
 
 def do_same(run, row):
     """same R S TO"""
     one, other = run.value_of(row[1]), run.value_of(row[2])
-    if one != other and is_address(one) and is_address(other):
-        run.compared[in_order(one[1], other[1])] = True
-    run.go_to(row[3] if one == other else run.number + 1)
+    same = one == other
+    if not same and is_address(one) and is_address(other):
+        pair = in_order(one[1], other[1])
+        run.compared[pair] = True
+        same = pair in run.joined
+    run.go_to(row[3] if same else run.number + 1)
 
 
 def do_choose(run, row):
@@ -204,9 +218,9 @@ def step(run):
     action(run, row)
 
 
-def advance(code, state):
+def advance(code, state, joined=()):
     """The Run from a state, at its next event; its frames are those at the instruction that makes it."""
-    run = Run(code, state)
+    run = Run(code, state, joined)
     for _ in range(MOST_SILENT + 1):
         run.frames = run.stack()
         step(run)

@@ -48,7 +48,7 @@ class Scope:
     """What the names of parsed modules mean; the modules are ordered by name."""
 
     def __init__(self, modules):
-        self.modules = modules
+        self.parsed = modules
         self.aliases = {}
         self.exporters = {}
         self.pieces = {}
@@ -66,10 +66,10 @@ class Scope:
 
     def home_of(self, module, name):
         """The module whose piece or alias a name means in a module, or None."""
-        if name in self.modules[module]:
+        if name in self.parsed[module]:
             return module
         for other in self.exporters.get(name, []):
-            if name in self.modules[other]:
+            if name in self.parsed[other]:
                 return other
         return None
 
@@ -99,7 +99,7 @@ class Scope:
 
     def exports_right(self, module, name):
         """Whether a module may export a name."""
-        return name in self.modules[module] and self.exporters[name][0] == module
+        return name in self.parsed[module] and self.exporters[name][0] == module
 
     def instruction_right(self, module, row):
         """Whether the NAME of an instruction means what the instruction asks for."""
@@ -128,7 +128,7 @@ class Scope:
 
 def check_modules(scope, texts):
     """Raises BadModule for the first row of the modules that breaks a rule."""
-    for name in scope.modules:
+    for name in scope.parsed:
         for number, words in enumerate(split_rows(texts[name])):
             if not scope.row_right(name, words):
                 raise BadModule(name, number)
@@ -157,8 +157,8 @@ class Program:
             raise LimitExceeded(MOST_PIECES)
         self._kinds = {}
         self._rows = {}
-        for module in scope.modules:
-            for piece in scope.modules[module]:
+        for module in scope.parsed:
+            for piece in scope.parsed[module]:
                 full = module + "." + piece.name
                 self._kinds[full] = piece.kind
                 self._rows[full] = tuple([scope.full_row(module, row) for row in piece.rows])
@@ -185,11 +185,20 @@ class Program:
             raise UnknownName(name)
         return name
 
+    def keeps(self, body, address=None):
+        """Whether a body and an address are kept: a program leaves nothing out."""
+        return True
+
     def meaning(self, module, name):
         """The full name that a name means in a module of the program, or None."""
-        if not is_name(name) or not isinstance(module, str) or module not in self._scope.modules:
+        if not is_name(name) or not isinstance(module, str) or module not in self._scope.parsed:
             return None
         return self._scope.meaning(module, name)
+
+    def bound_row(self, name, row):
+        """A row of an instruction, with what its NAME means in the module of a piece, or None if that is not right."""
+        module = name.split(".")[0]
+        return self._scope.full_row(module, row) if self._scope.instruction_right(module, row) else None
 
     def __contains__(self, name):
         return isinstance(name, str) and name in self._kinds

@@ -27,9 +27,3 @@ def used_from(steps, states):
     bodies = [name for run in runs for name in run.bodies]
     addresses = [name for run in runs for name in run.addresses]
     return (tuple(sorted(set([steps.code.entry, *bodies]))), tuple(sorted(set(addresses))))
-
-
-def size_from(steps, states):
-    """The size of what a code uses from states to their next events, with the entry."""
-    bodies, addresses = used_from(steps, states)
-    return size_of(steps.code, bodies, addresses)

@@ -1,6 +1,6 @@
 """Walking: all that runs reach, from event to event, with the least moments at which they do."""
 
-from foldsame.errors import LimitExceeded
+from foldsame.errors import LimitExceeded, Noticed
 from foldsame.machine import begin
 
 MOST_REACHED = 200
@@ -62,3 +62,11 @@ def walk_together(one, other, start):
 def begin_both(one, other):
     """The pair of the first states of two codes."""
     return (begin(one), begin(other))
+
+
+def walk_unnoticed(one, other):
+    """The Walk of a program and an image from their beginnings. Raises LimitExceeded, Noticed."""
+    walk, unlike = walk_together(one, other, begin_both(one.code, other.code))
+    if unlike is not None:
+        raise Noticed(walk.moments[unlike])
+    return walk

@@ -10,6 +10,7 @@ from foldsame import checker
 from foldsame.checker import check_moment, check_size, check_smallest, check_table, check_together
 from foldsame.foldings import Folding, foldings, partitions, plain
 from foldsame.images import Image, load
+from foldsame.joins import Fold, joins_of
 from foldsame.likeness import Likeness
 from foldsame.machine import at, begin
 from foldsame.noticing import notice, size, table, together
@@ -457,7 +458,9 @@ class ByItself(unittest.TestCase):
     def test_likeness_like_the_other_way(self):
         for program in programs_at_random(150):
             for addresses in partitions(program.taken)[:8]:
-                self.assertEqual(checker.like_bodies(program, addresses), Likeness(program, addresses).bodies)
+                likeness = Likeness(program, addresses)
+                fold = Fold(joins_of(program), addresses)
+                self.assertEqual((fold.legal, fold.parted()), (likeness.holds, likeness.bodies))
 
 
 if __name__ == "__main__":
