@@ -130,8 +130,11 @@ def holds(parts, addresses):
     return lies_in(addresses, parts)
 
 
-def slow_event(code, state, used=None, compared=None):
-    """The next event of a state with its frames and the states behind it, as [5] says it."""
+def slow_event(code, state, used=None, compared=None, kept=None):
+    """The next event of a state with its frames and the states behind it, as [5] says it.
+
+    Of kept, bodies and addresses, the others are left out.
+    """
     used = [] if used is None else used
     compared = [] if compared is None else compared
     frames, values = [list(frame) for frame in state[0]], dict(zip("abcd", state[1]))
@@ -144,9 +147,14 @@ def slow_event(code, state, used=None, compared=None):
         def behind(to):
             return (*here[:-1], (name, to)), tuple(values.values())
 
+        def missing(body, address=None):
+            if kept is None:
+                return False
+            return body not in kept[0] or (address is not None and address not in kept[1])
+
         word = row[0]
         frames[-1][1] = number + 1
-        fault = (("ended", "fault"), here, [])
+        fault, lost = (("ended", "fault"), here, []), (("ended", "missing"), here, [])
         if word in ("call", "callr"):
             to = row[1]
             if word == "callr":
@@ -155,6 +163,8 @@ def slow_event(code, state, used=None, compared=None):
                 to = code.home_of(values[to][1])
             if len(frames) == 4:
                 return ("ended", "deep"), here, []
+            if missing(to, values[row[1]][1] if word == "callr" else None):
+                return lost
             used.append(to)
             if word == "callr":
                 used.append(values[row[1]])
@@ -174,8 +184,13 @@ def slow_event(code, state, used=None, compared=None):
             if word == "readr":
                 if isinstance(values[of], int) or code.kind_of(code.home_of(values[of][1])) != "data":
                     return fault
-                used.append(values[of])
-                of = code.home_of(values[of][1])
+                address = values[of]
+                of = code.home_of(address[1])
+                if missing(of, address[1]):
+                    return lost
+                used.append(address)
+            elif missing(of):
+                return lost
             used.append(of)
             if row[3] >= len(code.rows_of(of)):
                 return fault
@@ -266,6 +281,28 @@ def slow_notice(one, other, start, most=200):
     return None
 
 
+def slow_pairs(one, other, most=200):
+    """All pairs of states of a program and an image, each with its least moment, by these; LimitExceeded as [9] says.
+
+    None if the image is noticed.
+    """
+    start = tuple([(((code.entry, 0),), ZEROS) for code in (one, other)])
+    if slow_notice(one, other, start, most) is not None:
+        return None
+    found = {}
+    waiting = [(start, ((), 0))]
+    while waiting:
+        pair, moment = min(waiting, key=lambda row: (row[1][1], row[1][0]))
+        waiting.remove((pair, moment))
+        if pair in found:
+            continue
+        found[pair] = moment
+        pairs = list(zip(slow_event(one, pair[0])[2], slow_event(other, pair[1])[2]))
+        for choice, behind in enumerate(pairs):
+            waiting.append((behind, (moment[0] + ((choice,) if len(pairs) == 2 else ()), moment[1] + 1)))
+    return found
+
+
 class Maker:
     """Makes programs at random, the same ones for the same number. Their pieces come from few shapes."""
 
@@ -327,3 +364,26 @@ class Maker:
 def programs_at_random(many, most=6, start=0):
     """So many programs at random."""
     return [Maker(number).program(most) for number in range(start, start + many)]
+
+
+def branching_program(number, most=5):
+    """A program that chooses which addresses it calls, and sometimes compares them, of up to so many alike functions."""
+    pick = random.Random(number)
+    names = list("fghijk")[:pick.randint(2, most)]
+    rows = ["choose 3", f"addr a {pick.choice(names[:3])}", "go 4", f"addr a {pick.choice(names[:3])}"]
+    if pick.random() < 0.7:
+        rows += ["choose 6", f"addr b {pick.choice(names[:3])}"]
+        if pick.random() < 0.7:
+            rows += [f"same a b {len(rows) + 2}", pick.choice(["set c 1", "tell c", "ret"])]
+    rows += pick.choice([["callr a"], ["callr a", "callr b"], ["call h0", "callr a"], ["callr a", "tell c", "go 0"]])
+    if pick.random() < 0.3:
+        rows += ["choose 0"]
+    shapes = [pick.choice([["tell c"], ["set b 1", "tell b"], ["call h0"], ["tell c", "callr b"], ["choose 1"]])]
+    shapes += [pick.choice([shapes[0], ["tell c"], ["call h1"]])]
+    parts = [func(name, *pick.choice(shapes)) for name in names]
+    return program_of(func("main", *rows), *parts, func("h0", "tell d"), func("h1", "tell d"), data("d", *names))
+
+
+def branching_programs(many, most=5, start=0):
+    """So many of these."""
+    return [branching_program(number, most) for number in range(start, start + many)]

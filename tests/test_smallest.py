@@ -205,5 +205,76 @@ class Limits(unittest.TestCase):
         self.assertIs(check_smallest(program, paper), True)
 
 
+def six_taken(*numbers):
+    """The program of six taken functions that set these numbers."""
+    parts = [func(name, f"set b {number}") for name, number in zip("fghijk", numbers)]
+    return program_of(func("main", "addr a f", "callr a", "tell b"), data("d", *"fghijk"), *parts)
+
+
+class SixTaken(unittest.TestCase):
+    """The folding, its size and the paper of two programs, as they were when each image was run by itself."""
+
+    ALL = tuple("m." + name for name in "fghijk")
+    FIRST = ((("m.main", 0),), (0, 0, 0, 0))
+    SECOND = ((("m.main", 3),), (("at", "m.f"), 5, 0, 0))
+
+    def check(self, program, addresses, bodies, entries):
+        paper = smallest_paper(program)
+        folding = smallest(program)
+        self.assertEqual((folding.addresses, folding.bodies, size(Image(folding))), (addresses, bodies, 4))
+        self.assertEqual(paper, (addresses, [(self.FIRST, self.FIRST), (self.SECOND, self.SECOND)], entries))
+        self.assertEqual(paper, smallest_paper(program))
+        self.assertIs(check_smallest(program, paper), True)
+        for place in (0, 1, 100, 201):
+            self.assertIs(check_smallest(program, (*paper[:2], entries[:place] + entries[place + 1:])), False)
+        for place in range(0, 202, 20):
+            for entry in [None, ("apart", ("m.f", "m.f"), ()), ("noticed", ((), 0)), ("large", []), ("large", [((), 2)])]:
+                wrong = [*entries[:place], entry, *entries[place + 1:]]
+                self.assertIs(check_smallest(program, (*paper[:2], wrong)), False)
+        for table_of in ([], paper[1][:1], paper[1][1:]):
+            self.assertIs(check_smallest(program, (addresses, table_of, entries)), False)
+
+    def test_all_alike(self):
+        self.check(six_taken(*[5] * 6), (self.ALL,), (("m.d",), self.ALL, ("m.main",)), [("large", [((), 0)])] * 202)
+
+    def test_all_unlike(self):
+        program = six_taken(*range(5, 11))
+        apart = tuple((name,) for name in self.ALL)
+        entries = []
+        for addresses in sorted(parts_of(self.ALL), key=lambda parts: (len(parts), parts)):
+            first = [part for part in addresses if len(part) > 1]
+            entries.extend([("apart", part[:2], ()) for part in first[:1]])
+        self.check(program, apart, (("m.d",), *apart, ("m.main",)), entries)
+
+    def test_lists_are_new(self):
+        program = six_taken(*[5] * 6)
+        paper = smallest_paper(program)
+        paper[2][0][1].append(None)
+        paper[2][1][1].clear()
+        paper[1].clear()
+        again = smallest_paper(program)
+        self.assertEqual((len(again[1]), again[2]), (2, [("large", [((), 0)])] * 202))
+
+    def test_some_compared(self):
+        # Each joining of f and g is noticed, whatever else is joined.
+        parts = [func(name, "tell b") for name in "fghijk"]
+        program = program_of(func("main", "addr a f", "addr b g", "same a b 4", "tell c", "callr a"), data("d", *"fghijk"), *parts)
+        paper = smallest_paper(program)
+        self.assertEqual(paper[0], (("m.f",), ("m.g", "m.h", "m.i", "m.j", "m.k")))
+        every = partitions(program.taken)
+        others = [addresses for addresses in every if addresses != paper[0]]
+        for addresses, entry in zip(others, paper[2]):
+            one = any("m.f" in part and "m.g" in part for part in addresses)
+            self.assertEqual(entry, ("noticed", ((), 0)) if one else ("large", [((), 1)]))
+        self.assertIs(check_smallest(program, paper), True)
+        for place in range(0, 202, 9):
+            noticed = paper[2][place][0] == "noticed"
+            entry = ("large", [((), 0), ((), 1)]) if noticed else ("noticed", ((), 0))
+            # All images have one size: those ahead of the smallest are not larger.
+            right = noticed and place >= every.index(paper[0])
+            changed = [*paper[2][:place], entry, *paper[2][place + 1:]]
+            self.assertIs(check_smallest(program, (*paper[:2], changed)), right, place)
+
+
 if __name__ == "__main__":
     unittest.main()
