@@ -269,7 +269,7 @@ class SixTaken(unittest.TestCase):
         self.assertIs(check_smallest(program, paper), True)
         for place in range(0, 202, 9):
             noticed = paper[2][place][0] == "noticed"
-            entry = ("large", [((), 0), ((), 1)]) if noticed else ("noticed", ((), 0))
+            entry = ("large", [((), 0)]) if noticed else ("noticed", ((), 0))
             # All images have one size: those ahead of the smallest are not larger.
             right = noticed and place >= every.index(paper[0])
             changed = [*paper[2][:place], entry, *paper[2][place + 1:]]
