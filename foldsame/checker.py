@@ -70,7 +70,7 @@ def moments_used(steps, value):
 def check_size(image, value, least):
     """Whether any value is a list of moments from which an image uses what has at least this size."""
     used = moments_used(Steps(image), value)
-    return used is not None and size_of(image, *used) >= least
+    return used is not None and size_of(image, used) >= least
 
 
 class Entries:
@@ -101,7 +101,7 @@ class Entries:
     def large_right(self, fold, value, least):
         """Whether any value is a list of moments from which the image uses what has at least this size."""
         used = moments_used(self.steps_of(fold), value)
-        return used is not None and size_of(fold, *named_uses(fold, *used)) >= least
+        return used is not None and size_of(fold, named_uses(fold, used)) >= least
 
     def right(self, addresses, least, entry):
         """Whether any value is a right entry for addresses, where an image of at least this size is large."""
@@ -141,5 +141,5 @@ def check_smallest(program, value):
     steps = Steps(image)
     if not begins_closed(Joined(entries.forks, 0), steps, pairs):
         return False
-    least = size_of(image, *used_from(steps, [there for _, there in pairs]))
+    least = size_of(image, used_from(steps, [there for _, there in pairs]))
     return entries.all_right(addresses, least, rest)

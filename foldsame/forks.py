@@ -73,12 +73,13 @@ class Folded:
         if state not in self._behind:
             run = self._joined.run_from(self._states[state])
             followers = [self.note(follower) for follower in run.followers]
-            bodies, addresses = named_uses(self.code, run.bodies, run.addresses)
+            bodies, addresses = named_uses(self.code, (run.bodies, run.addresses))
             frames = self.code.stack_named(run.frames)
             self._behind[state] = Onward(run.event, frames, followers, bodies, addresses)
         return self._behind[state]
 
 
-def named_uses(fold, bodies, addresses):
-    """The bodies and addresses of a Fold for bodies and addresses of the program, ascending."""
+def named_uses(fold, used):
+    """The ascending bodies and addresses of a Fold that are used where the program uses these."""
+    bodies, addresses = used
     return (sorted(set([fold.firsts[name] for name in bodies])), sorted(set([fold.homes[name] for name in addresses])))

@@ -37,5 +37,4 @@ def uses(code):
 
 def size(image):
     """The size of an image: of what its runs use. Raises LimitExceeded."""
-    bodies, addresses = uses(image)
-    return size_of(image, bodies, addresses)
+    return size_of(image, uses(image))

@@ -9,7 +9,7 @@ from foldsame.walking import begin_both, walk_alone, walk_together
 
 
 class Using:
-    """What is used at first at some moments: of each its moment, bodies and addresses, beside the entry's body."""
+    """What is used, beside the entry's body, and the rows, each a moment with what is used behind it, that use more."""
 
     def __init__(self, entry, rows):
         self.bodies = {entry: True}
@@ -20,8 +20,8 @@ class Using:
                 self.rows.append(row)
 
     def adds(self, row):
-        """Takes what a row uses; whether it was not used ahead."""
-        _, bodies, addresses = row
+        """Takes what a row uses; whether not all of it was used ahead."""
+        bodies, addresses = row[1]
         before = len(self.bodies) + len(self.addresses)
         for name in bodies:
             self.bodies[name] = True
@@ -33,7 +33,7 @@ class Using:
 def using_of(steps, walk):
     """The Using of all states of a Walk."""
     runs = [(walk.moments[state], steps.run_from(state)) for state in walk.found]
-    return Using(steps.code.entry, [(moment, run.bodies, run.addresses) for moment, run in runs])
+    return Using(steps.code.entry, [(moment, (run.bodies, run.addresses)) for moment, run in runs])
 
 
 class Judged:
@@ -60,7 +60,7 @@ class Search:
         self._using = using_of(self.steps, self.walk)
         used = [self.joins.bits[pair] for pair in pairs_of(sorted(self._using.addresses))]
         self._telling = self.joins.asked | sum(used)
-        self._sizes = {}
+        self._sized = {}
 
     def folds(self):
         """The Folds of all partitions of the taken pieces into addresses, in order."""
@@ -73,22 +73,21 @@ class Search:
     def judged(self, fold):
         """A legal Fold as Judged. Raises LimitExceeded."""
         if self.is_sure(fold):
-            many, moments = self.size_of_sure(fold)
-            return Judged(fold, None, many, moments)
+            return self.judged_sure(fold)
         folded = Folded(self.forks, fold)
         walk, unlike = walk_together(self.steps, folded, begin_both(self.program, fold))
         if unlike is not None:
             return Judged(fold, walk.moments[unlike], None, [])
-        using = using_of(folded, walk_alone(folded))
-        return Judged(fold, None, *sized(fold, using))
+        return sized(fold, using_of(folded, walk_alone(folded)))
 
-    def size_of_sure(self, fold):
-        """The size of the image of a sure Fold, and the moments to show it."""
+    def judged_sure(self, fold):
+        """A sure legal Fold as Judged."""
         told = fold.joined & self._telling
-        if told not in self._sizes:
-            rows = [(moment, *named_uses(fold, bodies, addresses)) for moment, bodies, addresses in self._using.rows]
-            self._sizes[told] = sized(fold, Using(fold.entry, rows))
-        return self._sizes[told]
+        if told not in self._sized:
+            rows = [(moment, named_uses(fold, used)) for moment, used in self._using.rows]
+            self._sized[told] = sized(fold, Using(fold.entry, rows))
+        like = self._sized[told]
+        return Judged(fold, None, like.many, like.moments)
 
     def table(self, fold):
         """The pairs of states of the program and the image of a Fold that is not noticed. Raises LimitExceeded."""
@@ -105,8 +104,8 @@ def search_of(program):
 
 
 def sized(fold, using):
-    """The size of what is used, and the moments at which it is used at first."""
-    return (size_of(fold, list(using.bodies), list(using.addresses)), [moment for moment, _, _ in using.rows])
+    """A Fold that is not noticed as Judged, by what its image uses."""
+    return Judged(fold, None, size_of(fold, (using.bodies, using.addresses)), [moment for moment, _ in using.rows])
 
 
 def best_of(judged):

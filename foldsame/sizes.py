@@ -3,8 +3,9 @@
 STUB = 2
 
 
-def size_of(code, bodies, addresses):
-    """The rows of bodies, and for each address beyond the first one of a body what it costs once more."""
+def size_of(code, used):
+    """The rows of the bodies used, and for each address used beyond the first one of a body what it costs once more."""
+    bodies, addresses = used
     total = sum([len(code.rows_of(name)) for name in bodies])
     homes = {}
     for address in addresses:

@@ -101,4 +101,4 @@ def size_telling(forks, fold, names):
     stacks = Stacks(Joined(forks, 0), steps)
     if any([stacks.first_moved(name) is not None for name in names]):
         return None
-    return size_of(fold, *used_from(steps, walk_alone(steps).found))
+    return size_of(fold, used_from(steps, walk_alone(steps).found))

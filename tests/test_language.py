@@ -114,6 +114,31 @@ class Language(unittest.TestCase):
         for place, node in self.nodes(ast.Name):
             self.assertNotIn(node.id, barred, place)
 
+    def test_stars_in_calls(self):
+        for place, node in self.nodes(ast.Call):
+            starred = [given for given in node.args if isinstance(given, ast.Starred)]
+            for given in node.args if starred else []:
+                value = given.value if isinstance(given, ast.Starred) else given
+                plain = isinstance(value, (ast.Name, ast.Constant))
+                self.assertTrue(plain or isinstance(value, ast.Attribute) and isinstance(value.value, ast.Name), place)
+
+    def test_is(self):
+        for place, node in self.nodes(ast.Compare):
+            for sign, right in zip(node.ops, node.comparators):
+                if isinstance(sign, (ast.Is, ast.IsNot)):
+                    self.assertIsInstance(right, ast.Constant, place)
+
+    def test_no_generator_expressions_and_names_for_methods_alone(self):
+        # Beside classes with __eq__ they are hardly allowed anywhere.
+        self.assertEqual([place for place, _ in self.nodes(ast.GeneratorExp, ast.SetComp)], [])
+        methods, stored = {}, {}
+        for _, tree in self.trees:
+            for made in [node for node in ast.walk(tree) if isinstance(node, ast.ClassDef)]:
+                methods.update({part.name: made.name for part in made.body if isinstance(part, ast.FunctionDef)})
+                stored.update({part.attr: made.name for part in ast.walk(made)
+                               if isinstance(part, ast.Attribute) and isinstance(part.ctx, ast.Store)})
+        self.assertEqual(set(methods) & set(stored), set())
+
     def test_statements(self):
         barred = (ast.Global, ast.AsyncFunctionDef, ast.AsyncFor, ast.AsyncWith, ast.Await, ast.Div)
         self.assertEqual([place for place, _ in self.nodes(*barred)], [])
