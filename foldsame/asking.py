@@ -33,8 +33,6 @@ class Parts:
 
     def __init__(self, text):
         self.text_read = text
-        self.place = 0
-        self.word = ""
         self.opened = 0
         self.go_to(0)
 
@@ -133,12 +131,3 @@ def tree_text(tree):
     if tree[0] == "&":
         return within(tree[1], LOOSE_SIGNS) + " & " + within(tree[2], SIGNS)
     return tree_text(tree[1]) + f" {tree[0]} " + within(tree[2], LOOSE_SIGNS)
-
-
-def tree_words(tree):
-    """The words of a tree, in the order of the text."""
-    if tree[0] == "word":
-        return [tree[1]]
-    if tree[0] == "road":
-        return tree_words(tree[2])
-    return [*tree_words(tree[1]), *tree_words(tree[2])]

@@ -52,7 +52,7 @@ class Joins:
         """The same, by those bits that matter for it."""
         firsts = {}
         for name in self.program.pieces:
-            like = [first for first in firsts if firsts[first] == first and self.alike(told, (first, name))]
+            like = [first for first in firsts if self.alike(told, (first, name))]
             firsts[name] = like[0] if like else name
         return firsts
 

@@ -1,7 +1,7 @@
 """Questions: sets of pieces, and what is asked of the program and the image of a Link."""
 
 from foldsame.anew import leading, named_pieces
-from foldsame.asking import WORDS, read_question, tree_text, tree_words
+from foldsame.asking import read_question, tree_text
 from foldsame.errors import UnknownName
 from foldsame.noticing import uses
 from foldsame.programs import taken_names
@@ -86,7 +86,8 @@ def road_names(link, road, names):
 
 
 def answer(link, tree):
-    """The Names that a tree gives. Raises LimitExceeded."""
+    """The Names that a tree gives. Raises UnknownName, LimitExceeded."""
+    # The words are looked at from left to right: the first one that is unknown is told.
     if tree[0] == "word":
         return Names(link.program, word_names(link, tree[1]))
     if tree[0] == "road":
@@ -110,9 +111,6 @@ class Question:
         return self._text
 
     def __call__(self, link):
-        for word in tree_words(self._tree):
-            if word not in WORDS and word not in link.program:
-                raise UnknownName(word)
         return answer(link, self._tree)
 
     def __eq__(self, other):

@@ -42,8 +42,6 @@ class Patch:
     """A program one of whose functions has other rows; its old rows are a piece more."""
 
     def __init__(self, program, name, text):
-        if name not in program:
-            raise UnknownName(name)
         if program.kind_of(name) != "func":
             raise NotFunction(name)
         rows = new_rows(program, name, text)
@@ -71,9 +69,7 @@ class Patch:
         return self._rows[name] if name in self._rows else self.program.rows_of(name)
 
     def home_of(self, name):
-        """The piece to which the address of this name goes: the taken one itself. Raises UnknownName."""
-        if not isinstance(name, str) or name not in self.taken:
-            raise UnknownName(name)
+        """The piece to which the address of this name goes: the taken one itself."""
         return name
 
     def keeps(self, body, address=None):

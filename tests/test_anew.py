@@ -115,6 +115,23 @@ class Touched(unittest.TestCase):
         self.assertEqual(self.touched(more, addresses=(("m.k",), ("m.t",), ("m.u",))), ("m.x",))
         self.assertEqual(self.touched(more, addresses=(("m.k", "m.u"), ("m.t",))), ("m.h", "m.x"))
 
+    def test_paths_through_what_is_not_touched(self):
+        chain = [func("x", "call p"), func("y", "call q"), func("p", "call r"), func("q", "call s"), func("r", "tell a"), func("s", "tell b")]
+
+        def program(*last):
+            return program_of(func("main"), func("f", "call x", "call r", *last), func("g", "call y", "call s", *last),
+                              func("h", "call x", *last), func("i", "call y", *last), *chain)
+
+        old, new = Likeness(program(), ()), program("set a 1")
+        self.assertEqual(old.path("m.x", "m.y"), (0, 0))
+        anew, whole = Anew(old, new, ()), Likeness(new, ())
+        self.assertEqual(anew.touched, ("m.f", "m.g", "m.h", "m.i"))
+        # The shorter one of two ways is found, though a longer one is known already.
+        self.assertEqual([anew.path(*pair) for pair in [("m.f", "m.g"), ("m.h", "m.i"), ("m.x", "m.y"), ("m.p", "m.q")]],
+                         [(1,), (0, 0, 0), (0, 0), (0,)])
+        for pair in itertools.combinations(new.pieces, 2):
+            self.assertEqual(anew.path(*pair), whole.path(*pair))
+
     def test_errors_as_a_likeness(self):
         old = Likeness(self.OLD, self.APART)
         for value in ANY_VALUES:

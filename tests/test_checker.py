@@ -356,6 +356,18 @@ class Entries(unittest.TestCase):
         self.assertIs(check_smallest(program, ((("m.f", "m.g"),), pairs, [("large", [])])), False)
         self.assertIs(check_smallest(program, ((("m.f", "m.g"),), [], [])), False)
 
+    def test_no_image_behind_the_smallest(self):
+        # The addresses that f and h would have as one stand behind the smallest ones, and no image has them.
+        program = program_of(func("main", "addr a f", "addr b g", "addr c h", "callr a"), func("f", "tell d"), func("g", "tell d"),
+                             func("h", "tell d", "tell d"))
+        addresses, pairs, entries = smallest_paper(program)
+        wanted = [parts for parts in partitions(program.taken) if parts != addresses]
+        place = wanted.index((("m.f", "m.h"), ("m.g",)))
+        self.assertEqual((addresses, entries[place][0]), ((("m.f", "m.g"), ("m.h",)), "apart"))
+        self.assertGreater(wanted[place], addresses)
+        for entry in [("large", [((), 0)]), ("noticed", ((), 0)), ("noticed", ((), 1)), ("large", [((), 0), ((), 1)])]:
+            self.assertIs(self.changed(program, place, entry), False)
+
     def test_apart_by_addresses(self):
         # Of one address f and g agree, but not where those that they take have two.
         program = program_of(func("main", "addr a f", "addr a g"), func("f", "addr a h"), func("g", "addr a i"), func("h"),

@@ -4,7 +4,7 @@ import itertools
 import random
 import unittest
 
-from helpers import branching_programs, error_of, programs_at_random
+from helpers import branching_programs, error_of, func, program_of, programs_at_random
 from foldsame.foldings import Folding, partitions
 from foldsame.forks import Folded, Forks, Joined
 from foldsame.images import Image
@@ -39,6 +39,16 @@ class Bodies(unittest.TestCase):
             joins = joins_of(program)
             for addresses in some_partitions(program):
                 self.same(joins, program, addresses, ())
+
+    def test_behind_several_calls(self):
+        # Callers stand ahead of what they call, and behind it.
+        for names in [("a", "b", "c", "e", "f", "g"), ("f", "g", "c", "e", "a", "b")]:
+            one, other, low, lower, last, least = names
+            for rows in (("tell a", "tell b"), (f"addr a {one}", f"addr a {other}"), ("tell a", "tell a")):
+                program = program_of(func("main", f"addr a {one}", f"addr a {other}"), func(one, "call " + low), func(other, "call " + lower),
+                                     func(low, "set c 1", "call " + last), func(lower, "set c 1", "call " + least), func(last, rows[0]), func(least, rows[1]))
+                for addresses in partitions(program.taken):
+                    self.same(joins_of(program), program, addresses, ())
 
     def test_with_some_alone(self):
         for program in PROGRAMS[::3]:

@@ -327,6 +327,17 @@ class Doing(unittest.TestCase):
             self.assertEqual(held(bench)[:3], held(other)[:3])
             self.assertEqual(bench.last.size, 1)
 
+    def test_by_an_object_of_trial(self):
+        trial = self.bench.trial()
+        self.assertIsNone(trial.do([("put", "b", "")]))
+        self.assertIsNone(trial.do(deeds=(("put", "c", ""), ("try", [("cancel",)], True)), keep=True))
+        self.assertEqual(self.names(), ["m", "a", "b", "c"])
+        # A deed `cancel` of its own block, and the method for the block around it.
+        with trial:
+            trial.do([("put", "d", "")])
+            trial.cancel()
+        self.assertEqual(self.names(), ["m", "a", "b", "c"])
+
     def test_no_deeds(self):
         for deeds in ([], ()):
             self.bench.do(deeds)

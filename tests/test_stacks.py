@@ -11,6 +11,7 @@ from foldsame.images import Image
 from foldsame.likeness import Likeness
 from foldsame.machine import begin, event_of
 from foldsame.needed import stripped
+from foldsame.noticing import size
 from foldsame.programs import Program
 from foldsame.stacks import sources, telling, tells, unique
 
@@ -279,6 +280,15 @@ class Telling(unittest.TestCase):
             for names in [(), ("m.main",)]:
                 self.assertEqual(error_of(telling, long_program(many), (), names), error)
         self.assertEqual(error_of(telling, long_program(201), (), ("m",)), (BadValue, ("m",)))
+
+    def test_a_later_one_that_is_smaller(self):
+        # With a alone, y and z are unlike, too; with y alone, its frames tell where a is.
+        five = ["set c 1", "set c 1", "set c 1", "set c 1"]
+        program = program_of(func("main", "choose 3", "addr a y", "go 4", "addr a z", "callr a"), func("a", "tell b"),
+                             func("b", "tell b"), func("y", *five, "call b"), func("z", *five, "call a"))
+        found = telling(program, (("m.y",), ("m.z",)), ("m.a",))
+        self.assertEqual(found.bodies, (("m.a", "m.b"), ("m.main",), ("m.y",), ("m.z",)))
+        self.assertEqual(size(Image(found)), 16)
 
     def test_data_alone(self):
         program = program_of(func("main", "choose 3", "read a d 0", "ret", "read a e 0"), data("d", "1"), data("e", "1"))
