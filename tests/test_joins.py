@@ -5,6 +5,7 @@ import random
 import unittest
 
 from helpers import branching_programs, error_of, func, program_of, programs_at_random
+from foldsame.checker import check_smallest
 from foldsame.foldings import Folding, partitions
 from foldsame.forks import Folded, Forks, Joined
 from foldsame.images import Image
@@ -14,6 +15,7 @@ from foldsame.machine import Steps, event_of
 from foldsame.noticing import notice, size, table, uses
 from foldsame.search import search_of
 from foldsame.sizes import used_from
+from foldsame.smallest import smallest_paper
 from foldsame.walking import begin_both, walk_alone, walk_together
 
 PROGRAMS = [*programs_at_random(60, 7, start=8000), *branching_programs(60, 6, start=900)]
@@ -89,15 +91,40 @@ class Runs(unittest.TestCase):
             self.assertEqual((run.event, run.frames, run.followers), event_of(image, state))
         self.assertEqual(used_from(steps, walk.found), uses(image))
 
-    def test_sizes_and_tables_without_a_walk(self):
+    def test_what_foldings_share(self):
+        shared = 0
         for program in PROGRAMS:
             search = search_of(program)
-            for fold in search.folds()[::7]:
-                if fold.legal and search.is_sure(fold):
-                    image = Image(fold.as_folding())
-                    judged = search.judged(fold)
-                    self.assertEqual((judged.noticed, judged.many), (None, size(image)))
-                    self.assertEqual(search.table(fold), table(program, image))
+            legal = [fold for fold in search.folds() if fold.legal]
+            for fold in legal[::3]:
+                image = Image(fold.as_folding())
+                judged = search.judged(fold)
+                self.assertEqual(judged.noticed, notice(program, image))
+                if judged.noticed is None:
+                    self.assertEqual((judged.many, search.table(fold)), (size(image), table(program, image)))
+            shared += len(legal[::3]) > 2
+        self.assertGreater(shared, 20)
+
+    def test_images_within_the_limit_where_the_joined_program_is_not(self):
+        def program(*last):
+            main = ["addr a f", "addr b g", "choose 5", "addr d f", "go 6", "addr d g", "same a b 8", "set d 0", *["call x"] * 6, *last]
+            return program_of(func("main", *main), func("f"), func("g"), func("x", *["tell c"] * 16))
+
+        # The image has one address for f and g, and the program forgets which one it had: each has half as many states.
+        for last in (["call x"], ["call x", "tell d"]):
+            one = program(*last)
+            search = search_of(one)
+            folds = [fold for fold in search.folds() if fold.legal]
+            self.assertEqual([search.way_of(fold) is None for fold in folds], [True, False])
+            for fold in folds:
+                image = Image(fold.as_folding())
+                judged = search.judged(fold)
+                self.assertEqual(judged.noticed, notice(one, image))
+                if judged.noticed is None:
+                    self.assertEqual((judged.many, search.table(fold)), (size(image), table(one, image)))
+            paper = smallest_paper(one)
+            self.assertIs(check_smallest(one, paper), True)
+            self.assertEqual(len(paper[0]), len(last))
 
 
 if __name__ == "__main__":
