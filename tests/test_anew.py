@@ -52,6 +52,25 @@ class Leading(unittest.TestCase):
                 self.assertEqual(leading(program, (name,)), tuple(sorted(wanted)))
 
 
+def slow_touched(old, program, addresses, alone):
+    """The touched pieces, as the document says it."""
+    def part(partition, name):
+        return [one for one in partition if name in one]
+
+    touched = set()
+    for name in program.pieces:
+        if name not in old.program.pieces or (name in alone) != (name in old.alone):
+            touched.add(name)
+        elif (old.program.kind_of(name), old.program.rows_of(name)) != (program.kind_of(name), program.rows_of(name)):
+            touched.add(name)
+        else:
+            for row in program.rows_of(name):
+                other = row[2] if isinstance(row, tuple) and row[0] == "addr" else row
+                if isinstance(other, str) and part(addresses, other) != part(old.addresses, other):
+                    touched.add(name)
+    return leading(program, sorted(touched))
+
+
 class Touched(unittest.TestCase):
 
     MAIN = func("main", "call f", "call k")
@@ -170,6 +189,7 @@ class Touched(unittest.TestCase):
                 for pair in itertools.combinations(other.pieces, 2):
                     self.assertEqual(anew.path(*pair), whole.path(*pair))
                 self.assertEqual((anew.bodies, anew.paper()), (whole.bodies, whole.paper()))
+                self.assertEqual(anew.touched, slow_touched(old, other, addresses, alone))
                 # For two pieces that are not touched everything is as it was.
                 same = [name for name in other.pieces if name not in anew.touched]
                 for pair in itertools.combinations(same, 2):

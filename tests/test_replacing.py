@@ -397,14 +397,26 @@ class Replaceable(unittest.TestCase):
         self.assertEqual(replaceable(program, patch).addresses, (("m.p",), ("m.q",)))
 
     def test_it_must_be_alone(self):
-        # Both call t: in the shared body nobody knows which one goes on, but the old rows say what they said.
+        # Behind the first event nobody knows whether u or v goes on, and what it calls next, unless p is alone.
+        program = program_of(func("main", "choose 3", "addr a u", "go 4", "addr a v", "callr a"), func("u", "set a 0", "call p", "call p"),
+                             func("v", "set a 0", "call q", "call q"), func("p", "tell b"), func("q", "tell b"))
+        apart = (("m.u",), ("m.v",))
+        greatest = Folding(program, apart, Likeness(program, apart).bodies)
+        self.assertEqual(greatest.bodies, (("m.main",), ("m.p", "m.q"), ("m.u", "m.v")))
+        patch = Patch(program, "m.p", "tell b\ntell b")
+        self.assertEqual(unsure(program, Image(greatest), patch), (((0,), 2), ((1,), 2), ((), 1)))
+        found = replaceable(program, patch)
+        self.assertEqual((found.addresses, found.bodies), (apart, plain(program).bodies))
+        self.assertEqual(found, slow_replaceable(program, patch))
+        self.assertIsNone(unsure(program, Image(found), patch))
+        # With rows that nobody tells from the old ones it need not be.
+        self.assertEqual(replaceable(program, Patch(program, "m.p", "set c 1\ntell b")), smallest(program))
+
+    def test_frames_stay_in_the_old_rows(self):
         program = program_of(func("main", "choose 3", "call p", "ret", "call q"), func("p", "tell b", "call s"),
                              func("q", "tell b", "call t"), func("s", "tell c"), func("t", "tell c"))
-        image = Image(smallest(program))
         patch = Patch(program, "m.s", "tell c\ntell c")
-        found = replaceable(program, patch)
-        self.assertEqual(found, slow_replaceable(program, patch))
-        self.assertEqual((unsure(program, image, patch) is None, found.bodies == smallest(program).bodies), (True, True))
+        self.assertEqual(replaceable(program, patch), smallest(program))
         program = program_of(func("main", "choose 4", "set a 1", "addr d p", "go 5", "addr d q", "callr d", "tell c"),
                              func("p", "tell b", "call p2"), func("q", "tell b", "call p2"), func("p2", "callr d"))
         patch = Patch(program, "m.q", "tell c\ntell c")
