@@ -130,7 +130,8 @@ class Block:
         self.outer = outer
         self.ahead = ahead
         self.depth = 1 if outer is None else outer.depth + 1
-        self.cancelled = None
+        # True, and None once the block is cancelled.
+        self.stands = True
 
 
 def is_deed(deed):
@@ -152,14 +153,14 @@ class Trial:
         return self
 
     def __exit__(self, kind, value, trace):
-        if kind is not None or self.inner.cancelled is not None:
+        if kind is not None or self.inner.stands is None:
             self.bench.now = self.inner.ahead
         self.inner = self.inner.outer
 
     def cancel(self):
         """Cancels the innermost block that is open, if there is one."""
         if self.inner is not None:
-            self.inner.cancelled = True
+            self.inner.stands = None
 
     def do(self, deeds, *, keep=True):
         """Does deeds in a block, cancelled at its end if keep is not True. Raises BadValue, and what they raise."""
