@@ -450,6 +450,17 @@ class Replaceable(unittest.TestCase):
                 alone += found != smallest(program)
         self.assertGreater(alone, 2)
 
+    def test_noticed_images_are_not_gone_through(self):
+        # Where p and q are one, two states go on alike beyond the limit; but that image is noticed, and does not count.
+        program = program_of(func("main", "choose 3", "addr a p", "go 4", "addr a q", "callr a", "addr b q", "same a b 8", "tell c", "call s"),
+                             func("p", "tell b"), func("q", "tell b"), func("s"), func("more", *["call tells"] * 8),
+                             func("tells", *["tell d"] * 16))
+        patch = Patch(program, "m.s", "call more\ncall more")
+        self.assertEqual(notice(program, Image(list(foldings(program))[0])), ((0,), 2))
+        carried = [carry(patch, at(program, ((choice,), 2))) for choice in (0, 1)]
+        self.assertEqual(error_of(go_alike, patch, *carried), LIMIT)
+        self.assertEqual(replaceable(program, patch).addresses, (("m.p",), ("m.q",)))
+
     def test_limits_behind_the_first_unsure_state(self):
         # Of states that are looked at behind one that is not sure, none is beyond the limit.
         for program in branching_programs(10, start=700):
